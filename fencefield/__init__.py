@@ -1,0 +1,1 @@
+"""Fencefield: fences with whole corners, and the points on them and inside."""
