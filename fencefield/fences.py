@@ -27,6 +27,11 @@ def goes_left(corners):
 
 def where(corners, point):
     refuse_no_fence(corners)
+    return place_of(corners, point)
+
+
+# What `where` tells, for those who have looked already that the corners are a fence.
+def place_of(corners, point):
     sides = sides_of(corners)
     if any([lies_on(start, end, point) for start, end in sides]):
         return "rim"

@@ -1,6 +1,6 @@
-"""Straight sides between whole points: how a point lies to them, and whether they meet.
+"""Straight sides between whole points: how a point lies to them, whether they meet, and their whole points.
 
-Only sums and products of whole numbers are formed, so every answer is exact at any distance.
+Everything is worked out in whole numbers, so every answer is exact at any distance.
 """
 
 
@@ -53,3 +53,15 @@ def meets_rightward(start, end, point):
     if (start[1] > point[1]) == (end[1] > point[1]):
         return False
     return (turn(start, end, point) > 0) == (end[1] > start[1])
+
+
+# How many whole points lie on the side, of its two ends the one alone: so the sides of a fence
+# share none. It is the greatest number that divides both ways of the side, found by Euclid's rule.
+def whole_points(start, end):
+    one = abs(end[0] - start[0])
+    other = abs(end[1] - start[1])
+    while other > 0:
+        rest = one % other
+        one = other
+        other = rest
+    return one

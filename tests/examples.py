@@ -1,4 +1,6 @@
-"""Fences that several tests share, and ways to tell the same fence otherwise."""
+"""Fences and turnings that several tests share, and ways to tell the same fence otherwise."""
+
+from tests import oracle
 
 FAR = 10 ** 40
 
@@ -12,6 +14,17 @@ SPIRAL = [(0, 0), (10, 0), (10, 10), (0, 10), (0, 4), (6, 4), (6, 6), (2, 6), (2
 
 # Each of them as it goes left round, with its double area.
 LEFT_ROUND = [(TRIANGLE, 12), (SQUARE, 72), (STRAIGHT_CORNERS, 48), (ARROW, 70), (COMB, 68), (SPIRAL, 136)]
+
+SMALL_TURNINGS = [
+    (1, 0, 0, 1, 0, 0), (0, -1, 1, 0, 0, 0), (-1, 0, 0, -1, 2, 9), (-1, 0, 0, 1, 3, -4), (0, 1, 1, 0, 5, 6),
+    (1, 3, 0, 1, 0, 0), (1, 0, -5, 1, -8, 0), (2, 1, 1, 1, -7, 2), (3, 5, -2, -3, 0, 1), (2, 3, 3, 4, 1, -1),
+]
+# The last two mix x and y, by numbers of up to forty figures.
+GREAT_TURNINGS = [
+    (1, 0, 0, 1, FAR, -FAR), (1, FAR // 20, 0, -1, 0, 7), (1, 0, -FAR // 20, 1, -FAR, FAR),
+    (1 + 3 * 10 ** 37, 3 * 10 ** 18, 10 ** 19, 1, 5, FAR),
+    (10 ** 18 + 7, 1 - 10 ** 20 * (10 ** 18 + 7), 1, -10 ** 20, -FAR, 0),
+]
 
 
 def from_every_corner(corners):
@@ -32,3 +45,41 @@ def moved(corners, x, y):
 
 def taken(corners, k):
     return [(corner[0] * k, corner[1] * k) for corner in corners]
+
+
+def led(corners, turning):
+    a, b, c, d, e, f = turning
+    return [(a * x + b * y + e, c * x + d * y + f) for x, y in corners]
+
+
+class Lots:
+    """Numbers in a fixed disorder, the same ones at each run and on each Python."""
+
+    def __init__(self, first):
+        self.state = first
+
+    def number(self, most):
+        self.state = (self.state * 6364136223846793005 + 1442695040888963407) % 2 ** 64
+        return (self.state >> 33) % (most + 1)
+
+    def point(self, reach):
+        return (self.number(reach), self.number(reach))
+
+
+def grown_fence(lots, count, reach):
+    """A fence of so many corners, bent inward and outward as the lots fall."""
+    corners = []
+    while not oracle.is_fence(corners):
+        corners = [lots.point(reach) for k in range(3)]
+    while len(corners) < count:
+        k = lots.number(len(corners))
+        bent = corners[:k] + [lots.point(reach)] + corners[k:]
+        if oracle.is_fence(bent):
+            corners = bent
+    return corners
+
+
+def grown_fences(reach):
+    """Some of each number of corners."""
+    lots = Lots(reach)
+    return [grown_fence(lots, count, reach) for count in range(3, 13) for k in range(6)]

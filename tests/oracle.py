@@ -60,8 +60,69 @@ def where(corners, point, reach=1000):
     return "outside" if met.count("none") % 2 == len(met) % 2 else "inside"
 
 
+def double_area(corners):
+    return abs(sum(cross(start, end) for start, end in sides(corners)))
+
+
 def goes_left(corners):
     # The least corner is one at which the fence surely bends outward.
     k = corners.index(min(corners))
     before, after = corners[k - 1], corners[(k + 1) % len(corners)]
     return cross(less(corners[k], before), less(after, corners[k])) > 0
+
+
+def row_counts(corners, y):
+    """Inside and on the rim, going through the points of the row."""
+    across = [x for x, corner_y in corners]
+    places = [where(corners, (x, y)) for x in range(min(across) - 1, max(across) + 2)]
+    return (places.count("inside"), places.count("rim"))
+
+
+def rows(corners):
+    """All rows through the fence, and two below and above it."""
+    upward = [y for x, y in corners]
+    return range(min(upward) - 2, max(upward) + 3)
+
+
+def counts(corners):
+    """Inside and on the rim, going through all points."""
+    found = [row_counts(corners, y) for y in rows(corners)]
+    return (sum(inside for inside, rim in found), sum(rim for inside, rim in found))
+
+
+def left_round(corners):
+    return list(corners) if goes_left(corners) else list(reversed(corners))
+
+
+def triangles_apart(one, other):
+    """Whether two triangles have no inside points in common: then a side of one parts them."""
+    for triangle, points in ((one, other), (other, one)):
+        for start, end in sides(left_round(triangle)):
+            if all(cross(less(end, start), less(point, start)) <= 0 for point in points):
+                return True
+    return False
+
+
+def passes_through(side, triangle):
+    """Whether points of the side lie inside the triangle."""
+    low, high = Fraction(0), Fraction(1)
+    for start, end in sides(left_round(triangle)):
+        first, last = [cross(less(end, start), less(point, start)) for point in side]
+        if first == last:
+            if first <= 0:
+                return False
+        elif last > first:
+            low = max(low, Fraction(-first, last - first))
+        else:
+            high = min(high, Fraction(-first, last - first))
+    return low < high
+
+
+def triangle_within(corners, triangle, reach):
+    """Whether the triangle lies within the fence: its middle does, and no side passes through it."""
+    # Taken three times, the middle of the triangle is a whole point.
+    middle = tuple(map(sum, zip(*triangle)))
+    threefold = [(3 * x, 3 * y) for x, y in corners]
+    if where(threefold, middle, reach) != "inside":
+        return False
+    return not any(passes_through(side, triangle) for side in sides(corners))

@@ -1,8 +1,9 @@
-"""Promises 2 to 4, for every list of a few points of a small field."""
+"""Promises 2 to 6, for every list of a few points of a small field."""
 
 import itertools
 import unittest
 
+from fencefield.counts import inside, rim, row_counts
 from fencefield.fences import double_area, goes_left, is_fence, where
 from tests import oracle
 
@@ -38,8 +39,12 @@ class AgainstOracle(unittest.TestCase):
             places = [oracle.where(corners, point) for point in ROUND_ABOUT]
             self.assertEqual([where(corners, point) for point in ROUND_ABOUT], places, corners)
             # All whole points on the rim and inside are among those looked at.
-            counted = 2 * places.count("inside") + places.count("rim") - 2
-            self.assertEqual(double_area(corners), counted, corners)
+            self.assertEqual(inside(corners), places.count("inside"), corners)
+            self.assertEqual(rim(corners), places.count("rim"), corners)
+            self.assertEqual(double_area(corners), 2 * places.count("inside") + places.count("rim") - 2, corners)
+            for y in range(-1, 4):
+                row = [place for point, place in zip(ROUND_ABOUT, places) if point[1] == y]
+                self.assertEqual(row_counts(corners, y), (row.count("inside"), row.count("rim")), (corners, y))
 
 
 if __name__ == "__main__":

@@ -2,14 +2,9 @@
 
 import unittest
 
-from fencefield.errors import FenceError, NoFence, NoTurning, TooWide
 from fencefield.fences import double_area, goes_left, where
 from tests.examples import (ARROW, COMB, FAR, LEFT_ROUND, SPIRAL, SQUARE, STRAIGHT_CORNERS, TRIANGLE,
                             every_telling, from_every_corner, moved, other_way_round, taken)
-from tests.test_is_fence import CROSSING, ON_A_LINE, STEPS, STRAIGHT_BACK, TOUCHING, TWICE
-
-TOO_SHORT = [[], [(1, 1)], [(0, 0), (1, 1)]]
-NO_FENCES = TOO_SHORT + [STEPS] + TWICE + STRAIGHT_BACK + CROSSING + TOUCHING + ON_A_LINE
 
 INSIDE, RIM, OUTSIDE = "inside", "rim", "outside"
 
@@ -168,41 +163,6 @@ class Where(unittest.TestCase):
         self.holds(fence, (beyond, 0), OUTSIDE)
         self.holds(SQUARE, (beyond, 3), OUTSIDE)
         self.holds(SQUARE, (-beyond, 3), OUTSIDE)
-
-
-class NoFences(unittest.TestCase):
-    def refused(self, ask, corners):
-        with self.subTest(corners=corners):
-            with self.assertRaises(NoFence) as caught:
-                ask(corners)
-            self.assertIsInstance(caught.exception, FenceError)
-            self.assertIsInstance(caught.exception, ValueError)
-            self.assertNotIsInstance(caught.exception, (NoTurning, TooWide))
-
-    def test_double_area(self):
-        for corners in NO_FENCES:
-            self.refused(double_area, corners)
-
-    def test_goes_left(self):
-        for corners in NO_FENCES:
-            self.refused(goes_left, corners)
-
-    def test_where(self):
-        for corners in NO_FENCES:
-            self.refused(lambda asked: where(asked, (1, 1)), corners)
-            self.refused(lambda asked: where(asked, (-50, 90)), corners)
-
-    def test_where_at_a_corner_of_no_fence(self):
-        for corners in NO_FENCES:
-            for corner in corners:
-                self.refused(lambda asked: where(asked, corner), corners)
-
-    def test_far_apart(self):
-        for corners in NO_FENCES:
-            distant = taken(corners, FAR // 200)
-            self.refused(double_area, distant)
-            self.refused(goes_left, distant)
-            self.refused(lambda asked: where(asked, (FAR, -FAR)), distant)
 
 
 if __name__ == "__main__":

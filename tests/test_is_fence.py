@@ -63,6 +63,10 @@ ON_A_LINE = [
     [(k, -3 * k) for k in range(12)],
 ]
 
+TOO_SHORT = [[], [(1, 1)], [(0, 0), (1, 1)]]
+
+NO_FENCES = TOO_SHORT + [STEPS] + TWICE + STRAIGHT_BACK + CROSSING + TOUCHING + ON_A_LINE
+
 
 class IsFence(unittest.TestCase):
     def holds(self, fences):
